@@ -1,17 +1,20 @@
 """The desk: calls are handed in here, and answered."""
 
-from feebooks.forms import bytes_stand, numbers_stand, split_calls
+from feebooks.asking import ask
+from feebooks.forms import FIRST_ASKING, bytes_stand, numbers_stand, split_calls
 from feebooks.record import Record
 from feebooks.telling import tell
 
 
 def answer_to(record, call):
     """The numbers that are answered to one call."""
-    if not numbers_stand(call):
+    if not numbers_stand(call, len(record.weights)):
         return [-3]
     if not bytes_stand(call):
         return [-1]
-    return [tell(record, call)]
+    if call.number < FIRST_ASKING:
+        return [tell(record, call)]
+    return ask(record, call)
 
 
 def answers(calls):

@@ -12,10 +12,22 @@ WHOLE_NUMBERS = {
     8: ("event", "day", "about"),
     9: ("event", "day"),
     10: ("undone",),
+    11: ("account", "day"),
+    12: ("about", "day"),
+    13: ("owner", "day"),
+    14: ("land", "day"),
+    15: ("day",),
+    16: ("day", "units", "small"),
+    17: ("day",),
+    18: (),
+    19: ("account", "day"),
+    20: ("owner", "day"),
 }
-WITH_LIST = (0, 2, 5)
-WITH_TEXT = (0, 5)
-# What isn't listed here may be any number.
+# The calls before this one tell something.
+FIRST_ASKING = 11
+WITH_LIST = (0, 2, 5, 16)
+WITH_TEXT = (0, 5, 16)
+# What isn't listed here may be any number, but a land: how many there are has been told.
 RANGES = {
     "event": (1, 999),
     "day": (0, 100000),
@@ -25,6 +37,7 @@ RANGES = {
     "amount": (1, 1000000000),
     "units": (0, 10000),
     "yes": (0, 1),
+    "small": (0, 1),
 }
 MOST_BYTES = 2000
 LAST_BYTE = 255
@@ -58,15 +71,17 @@ def split_calls(calls):
     return parts
 
 
-def in_range(name, number):
-    """Whether a whole number of this name may be this one."""
+def in_range(name, number, lands):
+    """Whether a whole number of this name may be this one, where there are so many lands."""
+    if name == "land":
+        return 1 <= number <= lands
     span = RANGES.get(name)
     return span is None or span[0] <= number <= span[1]
 
 
-def numbers_stand(call):
-    """Whether each whole number of the call is in its range."""
-    return all([in_range(name, number) for name, number in call.told.items()])
+def numbers_stand(call, lands):
+    """Whether each whole number of the call is in its range, where there are so many lands."""
+    return all([in_range(name, number, lands) for name, number in call.told.items()])
 
 
 def bytes_stand(call):

@@ -1,5 +1,8 @@
 """What has been told so far: it is kept as it was told, so that any evening's books can be reckoned from it."""
 
+DEPOSIT = 3
+CHARGE = 5
+
 
 class Event:
     """Something that happened. Its kind is the number of the call that told it: that puts the kinds
@@ -27,3 +30,24 @@ class Record:
         self.small = {}
         self.weights = [1]
         self.events = {}
+
+
+def target_refusal(record, call, kind):
+    """Why the call can't be about the event it names, which is to be of this kind and not behind
+    the call's day; 0 if it can."""
+    target = record.events.get(call.told["about"])
+    if target is None or target.kind != kind:
+        return -5
+    if call.told["day"] < target.day:
+        return -7
+    return 0
+
+
+def event_order(event):
+    """What puts events in their order."""
+    return (event.day, event.kind, event.number)
+
+
+def events_in_order(record):
+    """All events, in their order."""
+    return sorted(record.events.values(), key=event_order)

@@ -1,11 +1,9 @@
 """The calls by which something is told, each with its refusals. A refusal changes nothing."""
 
-from feebooks.record import Event
+from feebooks.record import CHARGE, DEPOSIT, Event, target_refusal
 from feebooks.schedules import Schedule, ScheduleFault, has_name_twice, read_fees
 from feebooks.words import is_name
 
-DEPOSIT = 3
-CHARGE = 5
 MOST_FEES = 12
 MOST_SCHEDULES = 8
 MOST_EVENTS = 60
@@ -69,16 +67,6 @@ def tell_event(record, call):
 def has_follower(record, number):
     """Whether a bounce or a refund is about the event of this number."""
     return any([event.about == number for event in record.events.values()])
-
-
-def target_refusal(record, call, kind):
-    """Why the call can't be about the event it names, which is to be of this kind; 0 if it can."""
-    target = record.events.get(call.told["about"])
-    if target is None or target.kind != kind:
-        return -5
-    if call.told["day"] < target.day:
-        return -7
-    return 0
 
 
 def tell_bounce(record, call):

@@ -57,6 +57,46 @@ def undo(k):
     return [10, k]
 
 
+def account(number, day):
+    return [11, number, day]
+
+
+def charged(number, day):
+    return [12, number, day]
+
+
+def owner(number, day):
+    return [13, number, day]
+
+
+def land(number, day):
+    return [14, number, day]
+
+
+def totals(day):
+    return [15, day]
+
+
+def price(day, units, yes, name):
+    return [16, day, units, yes] + row_of(name)
+
+
+def text(day):
+    return [17, day]
+
+
+def events():
+    return [18]
+
+
+def owed(number, day):
+    return [19, number, day]
+
+
+def opened(number, day):
+    return [20, number, day]
+
+
 def joined(calls):
     """Calls one behind another, as one list."""
     handed = []
@@ -76,3 +116,30 @@ def replies(*calls):
 def last(*calls):
     """The number answered to the last of these calls."""
     return replies(*calls)[-1]
+
+
+def parted(given, count):
+    """So many answers, each by itself; fails if there are other than so many."""
+    parts = []
+    at = 0
+    while at < len(given):
+        behind = at + 1 + given[at]
+        parts.append(given[at + 1:behind])
+        at = behind
+    if at != len(given) or len(parts) != count:
+        raise AssertionError(f"not {count} answers: {given}")
+    return parts
+
+
+def each(*calls):
+    """The answers to these calls, each a list."""
+    return parted(answers(joined(calls)), len(calls))
+
+
+def asked(told, *calls):
+    """The answers to these calls, each a list, where all this has been told, and nothing of it was refused."""
+    given = each(*told, *calls)
+    for call, answer in zip(told, given):
+        if answer[0] < 0:
+            raise AssertionError(f"refused with {answer}: {call}")
+    return given[len(told):]

@@ -147,5 +147,53 @@ class Names(unittest.TestCase):
             self.assertIn(node.type.id, own, (name, node.lineno))
 
 
+class Walks(unittest.TestCase):
+    WALKED = "zip enumerate reversed range items keys values".split()
+    WALKERS = "list tuple dict sorted sum any all enumerate zip min max".split()
+
+    def pairs(self):
+        """Each node of the package behind the node that holds it, with its file's name."""
+        return [(name, over, node) for name, tree in trees() for over in ast.walk(tree)
+                for node in ast.iter_child_nodes(over)]
+
+    def test_l20_is_stands_beside_plain_values_alone(self):
+        for name, node in nodes(ast.Compare):
+            for sign, other in zip(node.ops, node.comparators):
+                if isinstance(sign, (ast.Is, ast.IsNot)):
+                    self.assertIsInstance(other, ast.Constant, (name, node.lineno))
+                    self.assertIn(repr(other.value), ("None", "True", "False"), (name, node.lineno))
+
+    def test_l22_keywords(self):
+        for name, node in nodes(ast.Call):
+            wanted = {"sorted": ("key", "reverse"), "min": ("key", "default"), "max": ("key", "default"),
+                      "sum": ("start",), "enumerate": ("start",), "zip": ("strict",)}
+            for keyword in node.keywords:
+                self.assertIn(keyword.arg, wanted.get(getattr(node.func, "id", ""), ()), (name, node.lineno))
+
+    def test_l23_walked_on_the_spot(self):
+        for name, over, node in self.pairs():
+            called = getattr(node, "func", None)
+            if getattr(called, "id", getattr(called, "attr", "")) in self.WALKED:
+                by_loop = isinstance(over, (ast.For, ast.comprehension)) and over.iter is node
+                by_call = isinstance(over, ast.Call) and getattr(over.func, "id", "") in self.WALKERS
+                self.assertTrue(by_loop or by_call, (name, node.lineno))
+
+    def test_l24_sets_are_not_kept(self):
+        for name, over, node in self.pairs():
+            if isinstance(node, ast.Call) and getattr(node.func, "id", "") in ("set", "frozenset"):
+                by_call = (isinstance(over, ast.Call) and getattr(over.func, "id", "") in ("sorted", "len")
+                           and not over.keywords)
+                self.assertTrue(by_call or isinstance(over, ast.Compare), (name, node.lineno))
+
+    def test_l15_nothing_is_kept_at_the_top(self):
+        for name, tree in trees():
+            tops = {node.targets[0].id for node in tree.body if isinstance(node, ast.Assign)}
+            for node in ast.walk(tree):
+                if isinstance(node, (ast.Subscript, ast.Attribute)) and isinstance(node.ctx, ast.Store):
+                    self.assertNotIn(getattr(node.value, "id", ""), tops, (name, node.lineno))
+                if isinstance(node, ast.Attribute) and getattr(node.value, "id", "") in tops:
+                    self.assertIn(node.attr, ("get", "items", "keys", "values", "index", "count"), (name, node.lineno))
+
+
 if __name__ == "__main__":
     unittest.main()
